@@ -42,8 +42,8 @@ func TestExamples(t *testing.T) {
 	}
 }
 
-// Sizes that were reckoned by hand: at the ends of all spans, and where a number has
-// a byte more than the one ahead of it.
+// Sizes that were reckoned apart from this program: at the ends of all spans, and
+// where a number has a byte more than the one ahead of it.
 func TestKnownSizes(t *testing.T) {
 	for _, k := range []struct {
 		c    api.Config
@@ -175,7 +175,7 @@ func TestLines(t *testing.T) {
 	}
 }
 
-// Calls that were reckoned by hand.
+// Calls that were reckoned apart from this program.
 func TestKnownCalls(t *testing.T) {
 	great := config(64, 32, 512, 0, 88, 32)
 	small := config(15, 9, 3, 0, 13, 3)
