@@ -290,6 +290,22 @@ func TestStat(t *testing.T) {
 	}
 }
 
+// A block that is clean is not worn by being erased: neither one of a new flash, nor
+// of an opened one.
+func TestCleanBlocks(t *testing.T) {
+	d := format(t, example)
+	for i := range 12 {
+		d.Write(i, 1, "x")
+	}
+	if s := d.Stat(); s.Erases != 0 || slices.Max(d.Wear()) != 0 {
+		t.Errorf("P18.4: %d erases of clean blocks", s.Erases)
+	}
+	o := open(t, example, d.Image())
+	if o.Write(0, 48, "y"); o.Stat().Erases != 0 {
+		t.Errorf("P18.4: %d erases of clean blocks of an opened one", o.Stat().Erases)
+	}
+}
+
 // P18.2: numbers of calls at the ends of int, under a cut and a failure that are far.
 func TestFarCutAndFailure(t *testing.T) {
 	d := format(t, example)

@@ -123,21 +123,26 @@ func TestCutAgain(t *testing.T) {
 	}
 }
 
-// A snapshot is cut again and again: mounts read no more than they may, and the
-// next one comes to its end.
+// T6, T7: snapshots are cut again and again, those of great writes, of small ones and
+// of trims, so that they lie elsewhere each time: mounts read no more than they may,
+// and a snapshot comes to its end at last.
 func TestSnapshotCutAgain(t *testing.T) {
-	for _, c := range cutConfigs() {
-		for _, m := range moments(t, c) {
+	for i, c := range append(cutConfigs(), tight(64, 4, 0, 2)) {
+		for j, m := range moments(t, c) {
 			if !strings.Contains(m.what, "snapshot") {
 				continue
 			}
 			t.Run(name(c)+" "+m.what, func(t *testing.T) {
 				t.Parallel()
+				d := &dice{uint64(i*100 + j)}
 				r := m.resume(t)
-				for k := 0; k < 400; k += 7 {
-					r.cut(k)
-					if r.play(m.next) == api.OK {
-						break
+				for range 60 {
+					n := 1 + d.roll(c.Capacity)
+					r.cut(17*(n*d.roll(2)+1+d.roll(8)) + d.roll(3))
+					if d.roll(3) == 0 {
+						r.trim(0, n)
+					} else {
+						r.write(c.Capacity-n, n, d.data(n))
 					}
 					r.check()
 					r.mount(-1)
@@ -145,6 +150,36 @@ func TestSnapshotCutAgain(t *testing.T) {
 				}
 				r.goOn(m)
 			})
+		}
+	}
+}
+
+// T6, T7: a snapshot that lies in several blocks is cut in each of them, again and
+// again: what is left of one is gone when the next one is begun.
+func TestLongSnapshotCutAgain(t *testing.T) {
+	for _, c := range []api.Config{tight(64, 4, 0, 1), tight(64, 4, 0, 4), tight(64, 5, 2, 5)} {
+		r := newRig(t, c)
+		// Each sector is a run of its own; then the log is filled.
+		for i := range c.Capacity {
+			r.write(i*5%c.Capacity, 1, "x")
+		}
+		for {
+			d := open(t, c, r.one().Image())
+			if d.Trim(0, 1); d.Work().Snapshots > 0 {
+				break
+			}
+			r.write(0, 1, "y")
+		}
+		r.check()
+		for k := range 150 {
+			n := 1 + k%3*c.Pages
+			r.cut(17*(n+1+k%8) + k%5)
+			if r.write(c.Capacity-n, n, "z") == api.OK {
+				break
+			}
+			r.check()
+			r.mount(-1)
+			r.check()
 		}
 	}
 }

@@ -4,6 +4,7 @@ import (
 	"bytes"
 	"fmt"
 	"slices"
+	"strings"
 	"testing"
 
 	"ferrule/api"
@@ -349,6 +350,36 @@ func TestForgedImages(t *testing.T) {
 				t.Errorf("the forged images are too bad: none was opened")
 			}
 		})
+	}
+}
+
+// A sector whose page is spoilt is not told as if it were whole; all others are.
+func TestSpoiltPage(t *testing.T) {
+	d := format(t, example)
+	d.Write(0, 8, strings.Repeat("abcd", 64))
+	d.Write(3, 1, "x")
+	at := d.Runs()[len(d.Runs())-1].Phys // of the sector 4
+	for what, spoil := range map[string]func(p []byte){
+		"a byte":         func(p []byte) { p[40] ^= 1 },
+		"torn":           func(p []byte) { copy(p[64:], "\xff\xff\xff\xff") },
+		"another sector": func(p []byte) { b, _ := tag.Encode(api.Page{Kind: api.Data, Lba: 5}); copy(p, b) },
+		"another kind":   func(p []byte) { b, _ := tag.Encode(api.Page{Kind: api.Log, Lba: 4, Epoch: 9}); copy(p, b) },
+	} {
+		img := d.Image()
+		spoil(img[at*68 : (at+1)*68])
+		o := open(t, example, img)
+		if s, e := o.Read(4, 1); s != "" || e == api.OK {
+			t.Errorf("P18.1: %s: Read: %q, %d", what, s, e)
+		}
+		for _, x := range [][2]int{{0, 4}, {5, 43}} {
+			want, _ := d.Read(x[0], x[1])
+			if s, e := o.Read(x[0], x[1]); s != want || e != api.OK {
+				t.Errorf("P18.1: %s: Read(%d, %d): %q, %d", what, x[0], x[1], s, e)
+			}
+		}
+		if e := o.Write(4, 1, "new"); e != api.OK || o.Content()[128:131] != "new" {
+			t.Errorf("P18.1: %s: a write over it: %d", what, e)
+		}
 	}
 }
 

@@ -91,15 +91,12 @@ func (d *Device) layTogether(pages []api.Page, block int) (int, api.Errno) {
 		if e != api.OK || n == len(pages) {
 			return at, e
 		}
-		if !d.bad(block) {
-			// More than a block has room for: no map of a device's own has it.
-			return 0, api.EFULL
-		}
 	}
 }
 
 // fill programs pages in a block, as many as it has room for, or as go well, and
-// tells how many these are. A block that fails is no error as long as it may.
+// tells how many these are. That the block fails is no error, as long as so many
+// blocks may.
 func (d *Device) fill(block int, pages []api.Page) (int, api.Errno) {
 	n := min(len(pages), d.room(block))
 	for i, p := range pages[:n] {
@@ -120,15 +117,14 @@ func (d *Device) program(block int, p api.Page) api.Errno {
 	if e != api.OK {
 		return e
 	}
-	isFirst := d.nextPage(block) == block*d.config.Pages
-	e = d.flash.Program(d.nextPage(block), bytes)
-	if isFirst {
-		d.firsts[block] = first{}
-		if e == api.OK {
-			d.firsts[block] = firstOf(p)
-		}
+	page := d.nextPage(block)
+	if e := d.flash.Program(page, bytes); e != api.OK {
+		return e
 	}
-	return e
+	if page == block*d.config.Pages {
+		d.firsts[block] = firstOf(p)
+	}
+	return api.OK
 }
 
 // orFresh tells the block itself, or, if no page can be written there, a fresh one.
@@ -162,7 +158,7 @@ func (d *Device) take() (int, api.Errno) {
 	return none, api.EFULL
 }
 
-// erase cleans a block. If that fails, it is no error as long as it may.
+// erase cleans a block. That it fails is no error, as long as so many blocks may.
 func (d *Device) erase(block int) api.Errno {
 	d.firsts[block] = first{}
 	e := d.flash.Erase(block)

@@ -52,6 +52,8 @@ type told struct {
 	records int
 	pages   []int // each sector's page, or -1
 	content string
+	logged  int // how many whole pages its records have, those that are not whole, too
+	above   int // how many epochs above it have pages in blocks that are not bad
 }
 
 // read tells what the flash alone tells, or why it does not tell anything.
@@ -73,6 +75,16 @@ func (r *reader) read(c api.Config, img []byte) (told, string) {
 		copy(content[lba*32:], p.Payload[:])
 	}
 	x.content = string(content)
+	above := map[uint32]bool{}
+	for i, p := range pages {
+		if p.Kind == api.Log && p.Epoch == x.epoch {
+			x.logged++
+		}
+		if p.Kind != api.Data && p.Epoch > x.epoch && img[c.Blocks*c.Pages*api.PageBytes+2*(i/c.Pages)]&1 == 0 {
+			above[p.Epoch] = true
+		}
+	}
+	x.above = len(above)
 	return x, ""
 }
 

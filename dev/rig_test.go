@@ -289,7 +289,7 @@ func (r *rig) trim(lba, n int) api.Errno {
 // change does a write or a trim that makes the array after, if it is not refused.
 func (r *rig) change(n int, want api.Errno, after *model.Array, call func(d *dev.Device) api.Errno) api.Errno {
 	r.t.Helper()
-	was, img, power := r.one().Stat(), r.one().Image(), r.one().Power()
+	was, work, img, power := r.one().Stat(), r.one().Work(), r.one().Image(), r.one().Power()
 	if want == api.OK && !power {
 		want = api.EOFF
 	}
@@ -301,6 +301,7 @@ func (r *rig) change(n int, want api.Errno, after *model.Array, call func(d *dev
 		return e
 	}
 	r.worked(n, was)
+	r.recorded(e == api.OK, work)
 	switch {
 	case e == api.OK:
 		r.array, r.after = after, nil
@@ -322,6 +323,17 @@ func (r *rig) worked(n int, was dev.Stat) {
 	}
 	if now.Reads < was.Reads || now.Programs < was.Programs || now.Erases < was.Erases || now.Bad < was.Bad {
 		r.fatal("P18.4: Stat falls: %v, %v", was, now)
+	}
+}
+
+// recorded holds what a call has written whole against P18.5: each record is that of
+// a block that was collected, of a window that was written anew, or the call's own.
+func (r *rig) recorded(done bool, was dev.Work) {
+	r.t.Helper()
+	now := r.one().Work()
+	own := now.Records - was.Records - (now.Collections - was.Collections) - (now.Rewrites - was.Rewrites)
+	if done && own != 1 || !done && own != 0 {
+		r.fatal("P18.5: %d records of its own: %v, %v", own, was, now)
 	}
 }
 
@@ -480,6 +492,11 @@ func (r *rig) checkFlash(img []byte) {
 	}
 	if l := r.one().Runs(); l != nil && !slices.Equal(l, runsOf(now.pages)) {
 		r.fatal("T7: the flash tells other runs")
+	}
+	// A mount reads no more than it may, because the log is never longer, and there
+	// is never more than one epoch that was begun and is not whole.
+	if now.logged > r.sizes.LogPages || now.above > 1 {
+		r.fatal("T6: the log has %d pages, at most %d; %d epochs were begun", now.logged, r.sizes.LogPages, now.above)
 	}
 	work, was := r.one().Work(), r.work
 	records, snapshots := work.Records-was.Records, work.Snapshots-was.Snapshots

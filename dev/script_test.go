@@ -31,6 +31,7 @@ type script struct {
 	left   int // commands till the mood changes
 	at     int // the mood's place
 	keep   int // how many pages of a block a cold mood keeps
+	step   int // and how far from one another their sectors are
 }
 
 func newScript(c api.Config, seed, most int) *script {
@@ -55,11 +56,14 @@ func (s *script) next() command {
 // change begins a mood.
 func (s *script) change(mood int) {
 	s.mood, s.at = mood, s.roll(s.config.Capacity)
-	s.keep = 1 + s.roll(s.config.Pages/2)
+	s.keep, s.step = 1+s.roll(s.config.Pages/2), []int{1, 5, 7, 11, 13}[s.roll(5)]
+	if s.config.Capacity%s.step == 0 {
+		s.step = 1 // else it would not come to all sectors
+	}
 	s.left = 1 + s.roll(2*s.config.Capacity)
 	if mood == cold {
 		// Nothing must be collected till each block that may be has some pages.
-		s.left = s.config.Capacity * s.config.Pages / s.keep
+		s.left = (s.config.Capacity/s.keep + 3) * s.config.Pages
 	}
 }
 
@@ -68,9 +72,10 @@ func (s *script) place() (lba, n int, trim bool) {
 	capacity := s.config.Capacity
 	switch s.mood {
 	case cold:
-		// A few sectors that stay, and then one that is written again and again.
+		// A few sectors that stay, far from one another or side by side, and then
+		// one that is written again and again.
 		if k := s.at % s.config.Pages; k < s.keep {
-			return (s.at/s.config.Pages*s.keep + k) % capacity, 1, false
+			return (s.at/s.config.Pages*s.keep + k) * s.step % capacity, 1, false
 		}
 		return capacity - 1, 1, false
 	case ragged:
