@@ -10,7 +10,6 @@ import (
 	"ferrule/dev"
 	"ferrule/image"
 	"ferrule/leaf"
-	"ferrule/span"
 )
 
 var _ func(api.Config, []byte) ([]api.Page, []int, api.Errno) = image.Pages
@@ -228,7 +227,7 @@ func TestRunsOfARecord(t *testing.T) {
 		{"more on the way, and one more at the end", append(ragged(160), api.Op{Lba: 0, Len: 117, Phys: -1}), api.EFORM},
 		{"more on the way, as many at the end", append(ragged(160), api.Op{Lba: 0, Len: 120, Phys: -1}), api.OK},
 	} {
-		can := greatCanvas()
+		can := canvasOf(c, 1500)
 		can.snap(1)
 		can.log(1, 1, x.ops...)
 		if told, e := sound(t, x.what, c, can.img); e != x.e || e == api.OK && told.Records != 1 {
@@ -236,7 +235,7 @@ func TestRunsOfARecord(t *testing.T) {
 		}
 	}
 	// Of the snapshot itself it is not asked.
-	can := greatCanvas()
+	can := canvasOf(c, 1500)
 	var runs []api.Run
 	for _, o := range ragged(150) {
 		runs = append(runs, api.Run(o))
@@ -253,11 +252,6 @@ func TestRunsOfARecord(t *testing.T) {
 	if told, e := sound(t, "a record ahead that makes them fewer", c, can.img); e != api.OK || len(told.Runs) != 120 {
 		t.Errorf("P19.2: a record ahead that makes them fewer: %d, %d", len(told.Runs), e)
 	}
-}
-
-// greatCanvas makes an image of a flash of 64 blocks of 32 pages.
-func greatCanvas() *canvas {
-	return &canvas{img: append(slices.Repeat([]byte{255}, 2048*68), make([]byte, 128)...), at: 1500}
 }
 
 // P19.3: the pages that the map names.
@@ -313,84 +307,4 @@ func TestEpochs(t *testing.T) {
 		t.Errorf("P19.3: Epochs: %v, %d", l, e)
 	}
 	sound(t, "many epochs", config, c.img)
-}
-
-// T7, P19.3: what a device's image tells is what the device shows; of all lists that
-// are answered none shares memory.
-func TestOfDevices(t *testing.T) {
-	d, _ := dev.Format(config)
-	for i := range 120 {
-		d.Write(i*7%44, 1+i%4, strings.Repeat("abcdefg"[i%7:i%7+1], 70))
-		if i%5 == 3 {
-			d.Trim(i*3%44, 1+i%3)
-		}
-		if i%11 == 10 {
-			d.Cut(i)
-			d.Write(i%40, 8, "cut")
-			sound(t, "behind a cut", config, d.Image())
-			d.Mount(-1)
-		}
-		told, e := sound(t, "a device", config, d.Image())
-		content, f := image.Content(config, d.Image())
-		if e != api.OK || f != api.OK || content != d.Content() || !slices.Equal(told.Runs, d.Runs()) {
-			t.Fatalf("T7: behind %d: %v, %d, %d", i, told, e, f)
-		}
-	}
-	img := d.Image()
-	pages, numbers, _ := image.Pages(config, img)
-	told, _ := image.Read(config, img)
-	epochs, _ := image.Epochs(config, img)
-	clear(pages[:cap(pages)])
-	clear(numbers[:cap(numbers)])
-	clear(told.Runs[:cap(told.Runs)])
-	clear(epochs[:cap(epochs)])
-	sound(t, "answers that were changed", config, img)
-}
-
-// Images at random, of streams and pages that may be wrong in all ways.
-func TestRolled(t *testing.T) {
-	state := uint64(1)
-	roll := func(n int) int {
-		state = state*6364136223846793005 + 1442695040888963407
-		return int(state>>33) % n
-	}
-	errors := map[api.Errno]int{}
-	for range 3000 {
-		c := newCanvas()
-		for i := range 60 {
-			c.data(i, roll(48), "d")
-		}
-		for range roll(4) {
-			epoch := uint32(roll(4))
-			var pieces []api.Piece
-			for lba := roll(4); lba < 46; lba += 2 + roll(9) {
-				pieces = append(pieces, api.Piece{Lba: lba, Len: 1 + roll(2), Phys: roll(60)})
-			}
-			if roll(12) == 0 {
-				pieces = append(pieces, api.Piece{Lba: 49, Len: 1, Phys: 4})
-			}
-			if roll(12) == 0 {
-				pieces[0].Phys = 319
-			}
-			c.snap(epoch, span.Fold(pieces)...)
-			for range roll(4) {
-				var ops []api.Op
-				for range roll(4) {
-					ops = append(ops, api.Op{Lba: roll(47), Len: 1 + roll(2), Phys: roll(62) - 2 + 1})
-				}
-				if roll(30) == 0 {
-					ops = append(ops, api.Op{Lba: roll(49), Len: roll(3), Phys: 317 + roll(4)})
-				}
-				c.log(epoch, uint32(roll(5)), ops...)
-			}
-		}
-		for range roll(3) {
-			c.img[roll(200)*68+roll(68)] ^= byte(1 + roll(255))
-		}
-		_, e := sound(t, "rolled", config, c.img)
-		errors[e]++
-	}
-	if errors[api.OK] < 100 || errors[api.ELOST] < 100 || errors[api.EFORM] < 20 {
-		t.Errorf("the images are too much alike: %v", errors)
-	}
 }

@@ -15,8 +15,19 @@ import (
 // config is that of chapter 18's examples.
 var config = api.Config{Blocks: 40, Pages: 8, Capacity: 48, Spare: 2, MaxRuns: 48, Window: 8}
 
-// pagesOf is how many pages its flash has.
-const pagesOf = 320
+// few is a Config with fewer runs than sectors.
+var few = api.Config{Blocks: 17, Pages: 32, Capacity: 32, MaxRuns: 13, Window: 32}
+
+// dice roll numbers, the same ones for the same seed.
+type dice struct{ state uint64 }
+
+func (d *dice) roll(n int) int {
+	d.state = d.state*6364136223846793005 + 1442695040888963407
+	return int(d.state>>33) % n
+}
+
+// one is true once in n times.
+func (d *dice) one(n int) bool { return d.roll(n) == 0 }
 
 // canvas is an image that is put together page by page.
 type canvas struct {
@@ -25,10 +36,12 @@ type canvas struct {
 }
 
 // newCanvas makes an image of bytes 255, and 0 for the blocks.
-func newCanvas() *canvas {
-	c := &canvas{img: slices.Repeat([]byte{255}, pagesOf*68), at: 100}
-	c.img = append(c.img, make([]byte, 80)...)
-	return c
+func newCanvas() *canvas { return canvasOf(config, 100) }
+
+// canvasOf makes one of a Config's flash, with its streams from a page on.
+func canvasOf(c api.Config, at int) *canvas {
+	img := slices.Repeat([]byte{255}, c.Blocks*c.Pages*68)
+	return &canvas{img: append(img, make([]byte, 2*c.Blocks)...), at: at}
 }
 
 // put lays a page at a place.
@@ -93,6 +106,56 @@ func plainPages(c api.Config, img []byte) ([]api.Page, []int) {
 	return pages, numbers
 }
 
+// whose says to which stream a page belongs.
+type whose struct {
+	kind         int
+	epoch, group uint32
+}
+
+// plainJoin tells the streams that are whole, in the order of their groups.
+func plainJoin(pages []api.Page) []leaf.Stream {
+	sets := map[whose][]api.Page{}
+	for _, p := range pages {
+		if p.Kind == api.Snap || p.Kind == api.Log {
+			k := whose{p.Kind, p.Epoch, p.Group}
+			sets[k] = append(sets[k], p)
+		}
+	}
+	var l []leaf.Stream
+	for k, set := range sets {
+		if b, ok := plainWhole(set); ok {
+			l = append(l, leaf.Stream{Kind: k.kind, Epoch: k.epoch, Group: k.group, Bytes: b})
+		}
+	}
+	slices.SortFunc(l, func(a, b leaf.Stream) int { return cmp.Compare(a.Group, b.Group) })
+	return l
+}
+
+// plainWhole tells the bytes of a stream of which these are the pages.
+func plainWhole(l []api.Page) ([]byte, bool) {
+	n, total := int(l[0].Lba), int(l[0].Total)
+	payloads := map[int][32]byte{}
+	for _, p := range l {
+		was, ok := payloads[int(p.Index)]
+		if p.Lba != l[0].Lba || p.Total != l[0].Total || ok && was != p.Payload {
+			return nil, false
+		}
+		payloads[int(p.Index)] = p.Payload
+	}
+	if n > 65536 || total != max(1, (n+31)/32) || len(payloads) != total {
+		return nil, false
+	}
+	var b []byte
+	for i := range total {
+		payload, ok := payloads[i]
+		if !ok {
+			return nil, false
+		}
+		b = append(b, payload[:]...)
+	}
+	return b[:n], slices.Max(append(b[n:], 0)) == 0
+}
+
 // plainSnapshots tells the right snapshots, by their epochs.
 func plainSnapshots(c api.Config, streams []leaf.Stream) map[uint32][]int {
 	found := map[uint32][]int{}
@@ -118,11 +181,22 @@ func plainSnapshots(c api.Config, streams []leaf.Stream) map[uint32][]int {
 	return found
 }
 
-// plainRead is P19.2's words, on a table of sectors.
-func plainRead(c api.Config, img []byte) (image.Told, []int, api.Errno) {
-	pages, _ := plainPages(c, img)
-	streams := leaf.Join(pages)
-	found := plainSnapshots(c, streams)
+// plain is an image that is read by the words.
+type plain struct {
+	c       api.Config
+	pages   []api.Page
+	numbers []int
+	streams []leaf.Stream
+}
+
+func plainly(c api.Config, img []byte) plain {
+	pages, numbers := plainPages(c, img)
+	return plain{c, pages, numbers, plainJoin(pages)}
+}
+
+// read is P19.2's words, on a table of sectors.
+func (p plain) read() (image.Told, []int, api.Errno) {
+	c, found := p.c, plainSnapshots(p.c, p.streams)
 	if len(found) == 0 {
 		return image.Told{}, nil, api.ELOST
 	}
@@ -131,8 +205,7 @@ func plainRead(c api.Config, img []byte) (image.Told, []int, api.Errno) {
 		told.Epoch = max(told.Epoch, epoch)
 	}
 	table := found[told.Epoch]
-	slices.SortStableFunc(streams, func(a, b leaf.Stream) int { return cmp.Compare(a.Group, b.Group) })
-	for _, s := range streams {
+	for _, s := range p.streams {
 		ops, e := delta.Changes(s.Bytes)
 		if s.Kind != api.Log || s.Epoch != told.Epoch || e != api.OK {
 			continue
@@ -173,9 +246,9 @@ func plainRuns(table []int) []api.Run {
 	return l
 }
 
-// plainContent is P19.3's words.
-func plainContent(c api.Config, img []byte) (string, api.Errno) {
-	_, table, e := plainRead(c, img)
+// content is P19.3's words.
+func (p plain) content() (string, api.Errno) {
+	_, table, e := p.read()
 	if e != api.OK {
 		return "", e
 	}
@@ -183,22 +256,21 @@ func plainContent(c api.Config, img []byte) (string, api.Errno) {
 	for lba, phys := range table {
 		sector := make([]byte, 32)
 		if phys >= 0 {
-			p, e := tag.Decode(img[phys*68 : phys*68+68])
-			if e != api.OK || p.Kind != api.Data || p.Lba != uint32(lba) {
+			i := slices.Index(p.numbers, phys)
+			if i < 0 || p.pages[i].Kind != api.Data || p.pages[i].Lba != uint32(lba) {
 				return "", api.ECRC
 			}
-			copy(sector, p.Payload[:])
+			copy(sector, p.pages[i].Payload[:])
 		}
 		content = append(content, sector...)
 	}
 	return string(content), api.OK
 }
 
-// plainEpochs is P19.3's words.
-func plainEpochs(c api.Config, img []byte) []uint32 {
-	pages, _ := plainPages(c, img)
+// epochs is P19.3's words.
+func (p plain) epochs() []uint32 {
 	var l []uint32
-	for epoch := range plainSnapshots(c, leaf.Join(pages)) {
+	for epoch := range plainSnapshots(p.c, p.streams) {
 		l = append(l, epoch)
 	}
 	slices.Sort(l)
@@ -208,26 +280,29 @@ func plainEpochs(c api.Config, img []byte) []uint32 {
 // sound holds all four calls against the words, and tells Read's error.
 func sound(t *testing.T, what string, c api.Config, img []byte) (image.Told, api.Errno) {
 	t.Helper()
-	was := slices.Clone(img)
+	was := string(img) + "spare room"
+	room := []byte(was)
+	img = room[:len(img)]
+	p := plainly(c, img)
 	pages, numbers, e := image.Pages(c, img)
-	if p, n := plainPages(c, img); e != api.OK || !slices.Equal(pages, p) || !slices.Equal(numbers, n) {
-		t.Fatalf("P19.1: %s: Pages: %d, %d pages, want %d", what, e, len(pages), len(p))
+	if e != api.OK || !slices.Equal(pages, p.pages) || !slices.Equal(numbers, p.numbers) {
+		t.Fatalf("P19.1: %s: Pages: %d, %d pages, want %d", what, e, len(pages), len(p.pages))
 	}
 	told, e := image.Read(c, img)
-	want, _, f := plainRead(c, img)
+	want, _, f := p.read()
 	if e != f || told.Epoch != want.Epoch || told.Records != want.Records || !slices.Equal(told.Runs, want.Runs) {
 		t.Fatalf("P19.2: %s: Read: %v, %d, want %v, %d", what, told, e, want, f)
 	}
 	content, g := image.Content(c, img)
-	if wanted, h := plainContent(c, img); content != wanted || g != h {
+	if wanted, h := p.content(); content != wanted || g != h {
 		t.Fatalf("P19.3: %s: Content: %q, %d, want %q, %d", what, content, g, wanted, h)
 	}
 	epochs, g := image.Epochs(c, img)
-	if wanted := plainEpochs(c, img); g != api.OK || !slices.Equal(epochs, wanted) {
+	if wanted := p.epochs(); g != api.OK || !slices.Equal(epochs, wanted) {
 		t.Fatalf("P19.3: %s: Epochs: %v, %d, want %v", what, epochs, g, wanted)
 	}
-	if !slices.Equal(img, was) {
-		t.Fatalf("R4: %s: the image was changed", what)
+	if string(room) != was {
+		t.Fatalf("R4: %s: the image was changed, or the room behind it", what)
 	}
 	return told, e
 }
